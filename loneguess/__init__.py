@@ -1,0 +1,1 @@
+"""Readers that guess, compared by counting alone."""

@@ -1,0 +1,1 @@
+"""Readers, their ways and their rows."""
