@@ -2,6 +2,7 @@
 
 from fractions import Fraction
 from itertools import product
+from math import lcm
 
 
 def texts_up_to(letters, size):
@@ -86,3 +87,143 @@ def pairs_from(starts, arrows):
                     found.add((to, into))
                     fresh.append((to, into))
     return tuple(sorted(pair for pair in found if pair[0] <= pair[1]))
+
+
+def worth(parts, text):
+    """The value of a tally with these parts at a text."""
+    return sum(number * len(all_ways(reader, text)) for number, reader in parts)
+
+
+def pieces(parts, row):
+    """The pieces of a row of a tally, with their parts."""
+    found, at = [], 0
+    for number, reader in parts:
+        found.append((number, reader, row[at:at + len(reader)]))
+        at += len(reader)
+    return found
+
+
+def parts_row_after(parts, row, letter):
+    """A row of a tally put through a letter."""
+    return tuple(number for _, reader, piece in pieces(parts, row) for number in row_after(reader, piece, letter))
+
+
+def parts_step(parts, row):
+    """The step of a row of a tally."""
+    rows = [parts_row_after(parts, row, letter) for letter in parts[0][1].letters]
+    return tuple(map(sum, zip(*rows)))
+
+
+def parts_end(parts, row):
+    """The end of a row of a tally."""
+    return sum(number * piece[state] for number, reader, piece in pieces(parts, row) for state in reader.lasts)
+
+
+def parts_totals(parts, size):
+    """The totals of a tally for all lengths below this one."""
+    columns = [[number * total for total in all_totals(reader, size)] for number, reader in parts]
+    return tuple(map(sum, zip(*columns)))
+
+
+def rank(rows):
+    """How many of these rows are independent, with fractions."""
+    left = [[Fraction(number) for number in row] for row in rows]
+    found = 0
+    for column in range(len(rows[0]) if rows else 0):
+        pivot = next((row for row in left if row[column] != 0), None)
+        if pivot is None:
+            continue
+        found += 1
+        left.remove(pivot)
+        left = [[one - row[column] / pivot[column] * two for one, two in zip(row, pivot)] for row in left]
+    return found
+
+
+def is_some_space(parts, rows, letter_wise=False):
+    """Whether these rows are a space of a tally, or a wide one."""
+    first = tuple(int(state in reader.firsts) for _, reader in parts for state in range(len(reader)))
+    many = rank(rows)
+    if many < len(rows) or any(parts_end(parts, row) != 0 for row in rows):
+        return False
+    if letter_wise:
+        moved = [parts_row_after(parts, row, letter) for row in rows for letter in parts[0][1].letters]
+    else:
+        moved = [parts_step(parts, row) for row in rows]
+    return not any(first) if not rows else all(rank([*rows, row]) == many for row in [first, *moved])
+
+
+def greatest_space(parts, letter_wise=False):
+    """Rows that span all rows which have the end 0 behind whatever steps, or behind whatever letters."""
+    size = sum(len(reader) for _, reader in parts)
+    units = [tuple(int(at == state) for at in range(size)) for state in range(size)]
+    columns, fresh = [], [[parts_end(parts, unit) for unit in units]]
+    while fresh:
+        column = fresh.pop()
+        if rank([*columns, column]) > len(columns):
+            columns.append(column)
+            moves = [[parts_row_after(parts, unit, letter) for unit in units] for letter in parts[0][1].letters]
+            moves = moves if letter_wise else [[parts_step(parts, unit) for unit in units]]
+            fresh.extend([sum(one * two for one, two in zip(row, column)) for row in rows] for rows in moves)
+    return kernel(columns, size)
+
+
+def kernel(rows, size):
+    """Independent rows of integers of which each times each of these rows is 0."""
+    left = [[Fraction(number) for number in row] for row in rows]
+    heads = {}
+    for column in range(size):
+        at = next((at for at, row in enumerate(left) if at not in heads.values() and row[column] != 0), None)
+        if at is None:
+            continue
+        left[at] = [number / left[at][column] for number in left[at]]
+        left = [row if k == at else [one - row[column] * two for one, two in zip(row, left[at])]
+                for k, row in enumerate(left)]
+        heads[column] = at
+    found = []
+    for free in range(size):
+        if free not in heads:
+            row = [Fraction(0)] * size
+            row[free] = Fraction(1)
+            for column, at in heads.items():
+                row[column] = -left[at][free]
+            times = lcm(*[number.denominator for number in row])
+            found.append(tuple(int(number * times) for number in row))
+    return found
+
+
+def first_of(readers, is_wanted):
+    """The first text at which what the readers read of it is wanted, or None; by sets of states."""
+    start = tuple(reader.firsts for reader in readers)
+    seen, waiting = {start}, [("", start)]
+    for text, sets in waiting:
+        if is_wanted(*[any(state in reader.lasts for state in states) for reader, states in zip(readers, sets)]):
+            return text
+        for letter, after in moves_of(readers, sets):
+            if after not in seen:
+                seen.add(after)
+                waiting.append((text + letter, after))
+    return None
+
+
+def moves_of(readers, sets):
+    """For each letter the sets of states to which it leads from these sets."""
+    found = []
+    for letter in readers[0].letters:
+        found.append((letter, tuple(tuple(sorted({to for state, sign, to in reader.arrows if sign == letter and state in states}))
+                                    for reader, states in zip(readers, sets))))
+    return found
+
+
+def text_counts(readers, is_wanted, size):
+    """The numbers of the texts at which what the readers read is wanted, for all lengths below this one."""
+    counts = {tuple(reader.firsts for reader in readers): 1}
+    found = []
+    for _ in range(size):
+        found.append(sum(many for sets, many in counts.items() if is_wanted(
+            *[any(state in reader.lasts for state in states) for reader, states in zip(readers, sets)])))
+        after = {}
+        for sets, many in counts.items():
+            for _, led in moves_of(readers, sets):
+                after[led] = after.get(led, 0) + many
+        counts = after
+    return tuple(found)

@@ -9,7 +9,8 @@ from loneguess.read.readers import Reader
 from tests.brute import all_ways, texts_up_to
 from tests.checks import expect, expect_kept, expect_number
 from tests.examples import run_examples
-from tests.values import BEFORE, ENDA, EVERY, NOTHING, ODD, SOME, TOO_LONG, full_reader, kinds, some_readers
+from tests.values import BEFORE, ENDA, EVERY, NOTHING, ODD, SOME, TOO_LONG
+from tests.values import full_reader, kinds, kinds_but, some_readers
 
 EXAMPLES = """
 >>> ["bab" in ODD, "aa" in ODD, BEFORE[0, "a"], BEFORE[2, "a"], len(BEFORE), str(BEFORE), "c" in ODD]
@@ -188,7 +189,7 @@ class OperatorTests(unittest.TestCase):
         self.assertFalse(ODD != Reader(*parts(ODD)[:5]))
         others = [Reader("abc", *parts(ODD)[1:5]), Reader("ab", 3, *parts(ODD)[2:5]), ODD.with_ends(firsts=(1,)),
                   ODD.with_ends(lasts=(0,)), ODD.without_arrow(0, "a", 1), ENDA]
-        for other in [*others, *kinds()[:-3], (), parts(ODD), ODD.arrows, "ab", 2, InvalidNumber(2)]:
+        for other in [*others, *kinds_but(Reader), (), parts(ODD), ODD.arrows, "ab", 2, InvalidNumber(2)]:
             self.assertIs(ODD == other, False)
             self.assertIs(other == ODD, False)
             self.assertIs(ODD != other, True)

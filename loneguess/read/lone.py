@@ -6,10 +6,11 @@ states that are paired with it; so each pair of unlike states is kept twice.
 
 from loneguess.base.masks import image, mask_of, states_of
 from loneguess.base.names import is_ascending, is_text
+from loneguess.errors import NotLone
 from loneguess.read.readers import check_reader, is_state
 from loneguess.read.ways import is_way, ways
 
-_MAX_PAPER_TEXT = 4000
+MAX_PAPER_TEXT = 4000
 
 
 def is_lone(reader):
@@ -64,6 +65,18 @@ def is_lone_paper(reader, value):
     return False
 
 
+def check_lone(reader):
+    """Raises NotLone with the first text that has two ways, if there is one."""
+    text = two_ways(reader)
+    if text is not None:
+        raise NotLone(text)
+
+
+def is_paper_text(letters, value):
+    """Whether the value is a text of these letters that is not too long for a paper."""
+    return is_text(letters, value) and len(value) <= MAX_PAPER_TEXT
+
+
 def _first_two(reader, text):
     found = []
     for way in ways(reader, text):
@@ -74,7 +87,7 @@ def _first_two(reader, text):
 
 
 def _shows_two(reader, text, way, other):
-    if not is_text(reader.letters, text) or len(text) > _MAX_PAPER_TEXT:
+    if not is_paper_text(reader.letters, text):
         return False
     return is_way(reader, text, way) and is_way(reader, text, other) and way != other
 

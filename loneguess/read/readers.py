@@ -141,6 +141,11 @@ class Reader:
         return f"reader of {len(self._states)} states, {len(self._arrows)} arrows"
 
 
+def reader_of_all(letters):
+    """The reader with one state that reads all texts of these letters."""
+    return Reader(letters, 1, (0,), (0,), tuple([(0, letter, 0) for letter in letters]))
+
+
 def check_reader(value):
     """Raises InvalidReader unless the value is a reader."""
     if not isinstance(value, Reader):

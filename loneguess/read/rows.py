@@ -21,31 +21,31 @@ def through(reader, row, letter):
     check_reader(reader)
     check_row(len(reader), row)
     check_letter(reader.letters, letter)
-    return _passed(_plan(reader, letter), row)
+    return passed(plan_of(reader.backward(letter)), row)
 
 
 def step(reader, row):
     """The sum of what the row becomes through all letters."""
     check_reader(reader)
     check_row(len(reader), row)
-    return _stepped(_plans(reader), row)
+    return stepped(_plans(reader), row)
 
 
 def end(reader, row):
     """The sum of the row's numbers at the last states."""
     check_reader(reader)
     check_row(len(reader), row)
-    return _end_sum(reader, row)
+    return weighed(_ends(reader), row)
 
 
 def row_behind(reader, text):
     """The first row put through the letters of a text."""
     check_reader(reader)
     check_text(reader.letters, text)
-    plans = {letter: _plan(reader, letter) for letter in reader.letters}
+    plans = {letter: plan_of(reader.backward(letter)) for letter in reader.letters}
     row = first_row(reader)
     for letter in text:
-        row = _passed(plans[letter], row)
+        row = passed(plans[letter], row)
     return row
 
 
@@ -81,51 +81,67 @@ def check_length(value):
 
 def check_row(size, value):
     """Raises InvalidOperation unless the value is a row of so many integers."""
-    if not isinstance(value, tuple) or len(value) != size:
+    if not is_row(size, value):
         raise InvalidOperation("a row is a tuple with one integer for each state")
-    if not all([is_integer(number) for number in value]):
-        raise InvalidOperation("a row has only integers of at most two hundred digits")
 
 
-def _plan(reader, letter):
-    """The different sets of states from which a letter leads, and for each state its set's index.
+def is_row(size, value):
+    """Whether the value is a row of so many integers."""
+    if not isinstance(value, tuple) or len(value) != size:
+        return False
+    return all([is_integer(number) for number in value])
 
-    Numbers in rows grow long, so states to which the same states lead share one sum.
+
+def plan_of(sources):
+    """The different ones of these sets of states, and for each set its index among them.
+
+    A plan tells of a letter from which states arrows lead to each state. Numbers in rows
+    grow long, so states to which the same states lead share one sum.
     """
     index = {}
-    for mask in reader.backward(letter):
+    for mask in sources:
         index.setdefault(mask, len(index))
     groups = [states_of(mask) for mask in index]
-    return groups, [index[mask] for mask in reader.backward(letter)]
+    return groups, [index[mask] for mask in sources]
 
 
-def _plans(reader):
-    return [_plan(reader, letter) for letter in reader.letters]
-
-
-def _passed(plan, row):
+def passed(plan, row):
+    """The row put through the letter of a plan."""
     groups, places = plan
     sums = [sum([row[state] for state in group]) for group in groups]
     return tuple([sums[place] for place in places])
 
 
-def _stepped(plans, row):
-    rows = [_passed(plan, row) for plan in plans]
+def stepped(plans, row):
+    """The sum of what the row becomes through the letters of some plans."""
+    rows = [passed(plan, row) for plan in plans]
     return tuple([sum(numbers) for numbers in zip(*rows)])
 
 
-def _end_sum(reader, row):
-    return sum([row[state] for state in reader.lasts])
+def weighed(ends, row):
+    """The sum of the row's numbers at last states, each times its weight: pairs (state, weight)."""
+    return sum([weight * row[state] for state, weight in ends])
+
+
+def weighed_below(plans, row, ends, size):
+    """What the row comes to behind all numbers of steps below this one."""
+    found = []
+    for _ in range(size):
+        found.append(weighed(ends, row))
+        row = stepped(plans, row)
+    return found
+
+
+def _plans(reader):
+    return [plan_of(reader.backward(letter)) for letter in reader.letters]
+
+
+def _ends(reader):
+    return [(state, 1) for state in reader.lasts]
 
 
 def _totals_below(reader, size):
-    plans = _plans(reader)
-    row = first_row(reader)
-    found = []
-    for _ in range(size):
-        found.append(_end_sum(reader, row))
-        row = _stepped(plans, row)
-    return found
+    return weighed_below(_plans(reader), first_row(reader), _ends(reader), size)
 
 
 def _shortest_relation(numbers):

@@ -1,0 +1,1 @@
+"""Tallies, and what is known of them by counting."""
