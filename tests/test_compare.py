@@ -262,6 +262,7 @@ class ErrorTests(unittest.TestCase):
             expect_kept(self, UnknownName, "name", "zz", call, FOUR, ODD.over("abc"), Formula.of("zz"))
             expect(self, InvalidOperation, call, FOUR, ODD.over("abc"), A)
             expect(self, InvalidOperation, call, FOUR, full_reader("abc", 60), A)
+            expect(self, InvalidOperation, call, Shelf("a", {"a": sized_loop(8), "b": sized_loop(8)}), ODD, A & B)
             expect_kept(self, TooMany, "limit", 60, call, FOUR, full_reader("ab", 31), A)
             self.assertEqual(call(FOUR, full_reader("ab", 60), NONE | ALL), call(FOUR, NOTHING, ALL))
             wide = Shelf("a", {**{name: sized_loop(2) for name in "abd"}, "c": sized_loop(7)})

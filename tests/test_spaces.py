@@ -170,6 +170,16 @@ class PaperTests(unittest.TestCase):
             rows = ((1, 0, 1, 0), (1 + prime, 0, 1, prime))
             self.assertIs(is_hollow_paper(SAME, ("space", rows)), False)
 
+    def test_sizes_of_primes(self):
+        known = (127, 521, 607, 1279, 2203, 2281, 3217, 4253, 4423, 9689, 9941, 11213, 19937, 21701, 23209, 44497, 86243,
+                 110503, 132049, 216091, 756839, 859433)
+        self.assertEqual([size for size in module._SIZES if size not in known], [])
+        for size in module._SIZES[:5]:
+            number, prime = 4, 2 ** size - 1
+            for _ in range(size - 2):
+                number = (number * number - 2) % prime
+            self.assertEqual(number, 0)
+
     def test_rows_with_short_primes(self):
         told = random.Random(34)
         with mock.patch.object(module, "_SIZES", SHORT_SIZES):

@@ -138,14 +138,16 @@ def _least_text(tally, columns):
     """The first text as long as there are columns at which the value is not 0; the tally is fair.
 
     The column of a size tells for each state what one way there is worth behind all texts
-    of this size. In a fair tally these sums are 0 only if there is nothing to be summed.
+    of this size. In a fair tally these sums are 0 only if there is nothing to be summed;
+    and what they come to without a letter is what they come to with one, all letters taken
+    together, so one of the letters is found.
     """
     plans = plans_of(tally)
     row = tally.first
     text = ""
     for column in columns[::-1]:
         at = 0
-        while at + 1 < len(plans) and _dot(passed(plans[at], row), column) == 0:
+        while _dot(passed(plans[at], row), column) == 0:
             at += 1
         text = text + tally.letters[at]
         row = passed(plans[at], row)

@@ -4,7 +4,7 @@ from loneguess.count.spaces import check_paper_width, first_text, is_hollow, is_
 from loneguess.count.tallies import Tally
 from loneguess.read.lone import check_lone, is_paper_text
 from loneguess.read.made import both, check_alike
-from loneguess.read.readers import check_reader, reader_of_all
+from loneguess.read.readers import reader_of_all
 
 
 def tally_within(one, other):
@@ -43,7 +43,6 @@ def is_within_paper(one, other, value):
 
 def is_full(reader):
     """Whether a lone reader reads all texts."""
-    check_reader(reader)
     check_lone(reader)
     return is_hollow(_tally_less(reader_of_all(reader.letters), reader))
 

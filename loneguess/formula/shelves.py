@@ -45,9 +45,6 @@ class Shelf:
         """The shelf with this reader, in the place of the one that is there."""
         check_name(name)
         check_reader(reader)
-        check_letters_of(self._letters, reader)
-        if name not in self._readers and len(self._names) == MAX_NAMES:
-            raise InvalidOperation("there would be five readers")
         return Shelf(self._letters, {**self._readers, name: reader})
 
     def without_reader(self, name):
