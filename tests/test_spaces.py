@@ -147,17 +147,37 @@ class PaperTests(unittest.TestCase):
         self.assertIs(is_hollow_paper(SAME, ("space", rows)), False)
         rows = ((1, 0, 1, 0), (-TOO_LONG, 1, -TOO_LONG, 1))
         self.assertIs(is_hollow_paper(SAME, ("space", rows)), False)
-        # Twenty rows that have nothing in common but that their ends are 0.
+
+    def test_rows_that_have_only_their_ends_in_common(self):
         told = random.Random(33)
-        every = Tally(((1, EVERY),) * 12 + ((-1, EVERY),) * 12)
+        every = Tally(((1, EVERY),) * 30 + ((-1, EVERY),) * 30)
         rows = [every.first]
-        for _ in range(5):
-            row = [told.randrange(-LONG, LONG) // 20 for _ in range(23)]
-            rows.append((*row, sum(row[:12]) - sum(row[12:])))
+        for _ in range(29):
+            row = [told.randrange(-LONG, LONG) // 60 for _ in range(59)]
+            rows.append((*row, sum(row[:30]) - sum(row[30:])))
+        less = tuple(one - other for one, other in zip(rows[1], rows[2]))
         self.assertIs(is_hollow_paper(every, ("space", tuple(rows))), True)
+        self.assertIs(is_hollow_paper(every, ("space", (less, *rows[2:], rows[0]))), True)
         self.assertIs(is_hollow_paper(every, ("space", tuple(rows[1:]))), False)
-        again = tuple(one - other for one, other in zip(rows[1], rows[2]))
-        self.assertIs(is_hollow_paper(every, ("space", (*rows, again))), False)
+        self.assertIs(is_hollow_paper(every, ("space", (*rows, less))), False)
+        self.assertIs(is_hollow_paper(every, ("space", (less, *rows))), False)
+        self.assertIs(is_hollow_paper(every, ("space", (*rows[:-1], (*rows[-1][:-1], rows[-1][-1] + 1)))), False)
+
+    def test_rows_that_are_mixed_by_long_numbers(self):
+        told = random.Random(34)
+        loops = Tally(((1, sized_loop(30)), (-1, sized_loop(30))))
+        rows = hollow_paper(loops)[1]
+        mixes = [[told.randrange(-LONG, LONG) // 60 for _ in rows] for _ in rows]
+        found = [tuple(sum(times * row[at] for times, row in zip(mix, rows)) for at in range(60)) for mix in mixes]
+        self.assertIs(is_hollow_paper(loops, ("space", tuple(found))), True)
+        self.assertIs(is_hollow_paper(loops, ("space", tuple(found[1:]))), False)
+        self.assertIs(is_hollow_paper(loops, ("space", (*found, rows[0]))), False)
+        self.assertIs(is_hollow_paper(loops, ("space", (*found[1:], rows[0]))), True)
+        wrong = list(found[3])
+        wrong[0], wrong[30] = wrong[0] + 1, wrong[30] + 1
+        self.assertIs(is_hollow_paper(loops, ("space", (*found[:3], tuple(wrong), *found[4:]))), True)
+        wrong[30] -= 1
+        self.assertIs(is_hollow_paper(loops, ("space", (*found[:3], tuple(wrong), *found[4:]))), False)
 
     def test_numbers_that_a_prime_divides(self):
         for size in (31, 61, 89, 107, 127, 521):
@@ -181,7 +201,7 @@ class PaperTests(unittest.TestCase):
             self.assertEqual(number, 0)
 
     def test_rows_with_short_primes(self):
-        told = random.Random(34)
+        told = random.Random(38)
         with mock.patch.object(module, "_SIZES", SHORT_SIZES):
             for tally in HOLLOW:
                 most = greatest_space(tally.parts)

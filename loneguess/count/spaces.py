@@ -117,13 +117,11 @@ def is_space(tally, value, moves):
     wanted = [tally.first, *_moved(value, moves)]
     for size in _SIZES:
         prime = (1 << size) - 1
-        basis = _spanned(value, prime)
-        is_independent = len(basis) == len(value)
-        if is_independent and not _are_sums_modulo(basis, wanted, prime):
+        rows, others, basis = _sorted_out(value, prime)
+        if not others and not _are_sums_modulo(basis, wanted, prime):
             return False
-        scale, lifted = _lifted(basis, prime)
-        if _are_sums(scale, lifted, value):
-            return is_independent and _are_sums(scale, lifted, wanted)
+        if _is_shown(rows, others[:1] or wanted, basis, prime):
+            return not others
 
 
 def _step_rows(tally):
@@ -177,17 +175,50 @@ def _grown(first, moves, ends, prime):
     return found, basis
 
 
-def _spanned(rows, prime):
-    """The basis of some rows modulo a prime: pairs of an index and a row.
+def _sorted_out(rows, prime):
+    """The rows that are independent modulo a prime, the others, and the basis of the former.
 
-    It is reduced: at its index, a row has the number 1 and all others have 0.
+    The basis is pairs of an index and a row. It is reduced: at its index, a row has the
+    number 1, and all other rows have 0.
     """
-    basis = []
+    found, others, basis = [], [], []
     for row in rows:
         rest = _rest_modulo(basis, row, prime)
         if any(rest):
+            found.append(row)
             basis = _with_row(basis, rest, prime)
-    return basis
+        else:
+            others.append(row)
+    return found, others, basis
+
+
+def _is_shown(rows, wanted, basis, prime):
+    """Whether the wanted rows turn out to be sums of multiples of independent ones.
+
+    There are two ways to see it by short numbers. Long rows can be simple ones, mixed by
+    long factors: their basis is simple. Or the factors are short that lead to wanted rows.
+    """
+    scale, lifted = _lifted(basis, prime)
+    if _are_sums(scale, lifted, [*rows, *wanted]):
+        return True
+    blank = [0] * len(rows)
+    units = [[*blank[:at], 1, *blank[at + 1:]] for at in range(len(rows))]
+    _, _, wide = _sorted_out([[*row, *unit] for row, unit in zip(rows, units)], prime)
+    for row in wanted:
+        # What is left of a row is nothing but what was taken of each independent one.
+        factors = _rest_modulo(wide, [*row, *blank], prime)[len(row):]
+        if not _is_balanced(row, rows, factors, prime):
+            return False
+    return True
+
+
+def _is_balanced(row, rows, factors, prime):
+    """Whether the row and others, times factors that are told modulo a prime, add up to zeros."""
+    scale, lifted = _lifted([(0, factors)], prime)
+    rest = [scale * number for number in row]
+    for factor, other in zip(lifted[0][1], rows):
+        rest = _less(rest, -factor, other)
+    return not any(rest)
 
 
 def _with_row(basis, rest, prime):
