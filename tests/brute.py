@@ -227,3 +227,85 @@ def text_counts(readers, is_wanted, size):
                 after[led] = after.get(led, 0) + many
         counts = after
     return tuple(found)
+
+
+def reads(reader, text):
+    """Whether the reader reads a text."""
+    states = set(reader.firsts)
+    for letter in text:
+        states = {other for state, sign, other in reader.arrows if sign == letter and state in states}
+    return bool(states & set(reader.lasts))
+
+
+def all_cuts(one, other, text):
+    """The cuts of a text, ascending."""
+    return tuple(at for at in range(len(text) + 1) if reads(one, text[:at]) and reads(other, text[at:]))
+
+
+def all_chains(reader, text):
+    """The chains of a text, ascending."""
+    if not text:
+        return [()]
+    found = [()] if reads(reader, text) else []
+    for at in range(1, len(text)):
+        if reads(reader, text[:at]):
+            found.extend((at, *[at + more for more in chain]) for chain in all_chains(reader, text[at:]))
+    return sorted(found)
+
+
+def first_twice(letters, start, led, many):
+    """The first text that has two or more of what is counted, or None; numbers above 2 are told as 2."""
+    seen, waiting = {start}, [("", start)]
+    for text, counts in waiting:
+        if many(counts) > 1:
+            return text
+        for letter in letters:
+            after = tuple(min(number, 2) for number in led(counts, letter))
+            if after not in seen:
+                seen.add(after)
+                waiting.append((text + letter, after))
+    return None
+
+
+def first_twice_cut(one, other):
+    """The first text that has two cuts, or None: by the numbers of ways, of the first reader and behind cuts."""
+    size = len(one)
+
+    def begun(row):
+        here = min(sum(row[state] for state in one.lasts), 2)
+        return tuple(row[size + state] + here * (state in other.firsts) for state in range(len(other)))
+
+    def led(row, letter):
+        return row_after(one, row[:size], letter) + row_after(other, begun(row), letter)
+    start = tuple(int(state in one.firsts) for state in range(size)) + (0,) * len(other)
+    return first_twice(one.letters, start, led, lambda row: sum(begun(row)[state] for state in other.lasts))
+
+
+def first_twice_chained(reader):
+    """The first text that has two chains, or None: by the numbers of chains that have ended, and of others."""
+    def led(row, letter):
+        begun = [number + row[0] * (state in reader.firsts) for state, number in enumerate(row[1:])]
+        after = row_after(reader, begun, letter)
+        return (sum(after[state] for state in reader.lasts), *after)
+    return first_twice(reader.letters, (1,) + (0,) * len(reader), led, lambda row: row[0])
+
+
+def all_careful(reader, most=1000):
+    """The careful states that come up, by what is told of them, with the arrows between them; by sets."""
+    arrows = {}
+    for state, letter, other in reader.arrows:
+        arrows.setdefault((state, letter), set()).add(other)
+    found = [(state, tuple(other for other in reader.firsts if other < state)) for state in reader.firsts]
+    between, at = [], 0
+    while at < len(found) <= most:
+        state, earlier = found[at]
+        for letter in reader.letters:
+            to = arrows.get((state, letter), set())
+            others = set().union(*[arrows.get((other, letter), set()) for other in earlier])
+            for other in sorted(to - others):
+                pair = (other, tuple(sorted(others | {less for less in to if less < other})))
+                if pair not in found:
+                    found.append(pair)
+                between.append((at, letter, found.index(pair)))
+        at += 1
+    return tuple(found), tuple(sorted(between))

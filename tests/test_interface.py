@@ -21,6 +21,7 @@ CONSTANTS = {
     "count.tallies": {"MAX_WIDTH": 200},
     "count.spaces": {"MAX_SPACE": 60},
     "formula.formulas": {"MAX_NAMES": 4, "MAX_DEPTH": 8, "WORDS": ("all", "and", "none", "not", "or")},
+    "listing.places": {"MAX_TEXT": 400},
 }
 FUNCTIONS = {
     "base.names": "is_integer(value) is_name(value) is_letters(value) is_text(letters,value)",
@@ -41,6 +42,10 @@ FUNCTIONS = {
     "formula.compare": "is_implied(shelf,one,other) are_equal(shelf,one,other) is_never(shelf,formula) first_true(shelf,formula) "
                        "first_gap(shelf,one,other) implied_paper(shelf,one,other) is_implied_paper(shelf,one,other,value) "
                        "does_fit(shelf,reader,formula) first_miss(shelf,reader,formula)",
+    "build.joins": "join(one,other) again(reader) cuts(one,other,text) chains(reader,text) twice_cut(one,other) twice_chained(reader)",
+    "listing.places": "texts_of(reader,size) nth(reader,index) place(reader,text) true_texts(shelf,formula,size) "
+                      "nth_true(shelf,formula,index) true_place(shelf,formula,text)",
+    "build.firsts": "careful(reader) lone_of(reader)",
 }
 CLASSES = {
     "read.readers": ("Reader(letters,size,firsts,lasts,arrows)", "with_arrow(state,letter,other) without_arrow(state,letter,other) "
@@ -65,10 +70,12 @@ KINDS = {
     "formula": (A, kinds_but(Formula), InvalidFormula, None),
     "letters": ("ab", [*kinds_but(str), "ba", "", "abcde"], InvalidLetters, None),
     "text": ("ab", [*kinds_but(str), "c", "A"], InvalidText, None),
+    "odd text": ("a", [*kinds_but(str), "c", "A"], InvalidText, None),
     "letter": ("a", [*kinds_but(str), "", "ab", "c"], InvalidText, None),
     "row": ((1, 2), [*[value for value in kinds() if value not in ((1, 0), (0, 0), (0, -1))], (True, 1)], InvalidOperation, None),
     "wide row": ((1, 2, 3, 4), [*kinds(), (1, 2), (True, 1, 1, 1)], InvalidOperation, None),
     "length": (3, [*kinds_but(int), True, False, -1, 401, 10 ** 299], InvalidNumber, "value"),
+    "index": (3, [*kinds_but(int), True, False, -1, 10 ** 200, 10 ** 299], InvalidNumber, "value"),
     "state": (0, [*kinds_but(int), True, False, -1, 2, 10 ** 299], InvalidNumber, "value"),
     "size": (2, [*kinds_but(int), True, False, -1, 0, 61, 10 ** 299], InvalidNumber, "value"),
     "name": ("odd", [*kinds_but(str), "", "A", "ninechars"], InvalidName, None),
@@ -82,7 +89,7 @@ KINDS = {
 }
 ARGUMENTS = {
     "base.names": {"is_text": ("letters", "value")},
-    "read.ways": {name: ("reader", "text") for name in ("count_ways", "first_way", "reached", "ready")}
+    "read.ways": {name: ("reader", "text") for name in ("count_ways", "first_way", "reached", "ready", "ways")}
     | {"is_way": ("reader", "text", "value")},
     "read.rows": {"first_row": ("reader",), "through": ("reader", "row", "letter"), "step": ("reader", "row"),
                   "end": ("reader", "row"), "row_behind": ("reader", "text"), "total": ("reader", "length"),
@@ -106,6 +113,12 @@ ARGUMENTS = {
                         "is_implied_paper": ("shelf", "formula", "formula", "value"), "is_never": ("shelf", "formula"),
                         "first_true": ("shelf", "formula"), "does_fit": ("shelf", "reader", "formula"),
                         "first_miss": ("shelf", "reader", "formula")},
+    "build.joins": {**{name: ("reader", "reader") for name in ("join", "twice_cut")}, "again": ("reader",), "twice_chained": ("reader",),
+                    "cuts": ("reader", "reader", "text"), "chains": ("reader", "text")},
+    "listing.places": {"texts_of": ("reader", "length"), "nth": ("reader", "index"), "place": ("reader", "odd text"),
+                       "true_texts": ("shelf", "formula", "length"), "nth_true": ("shelf", "formula", "index"),
+                       "true_place": ("shelf", "formula", "odd text")},
+    "build.firsts": {"careful": ("reader",), "lone_of": ("reader",)},
 }
 GAP = Tally(((1, SOME), (-1, ODD)))
 METHODS = [
@@ -137,6 +150,13 @@ def parameters(call, skip=0):
             words.append("*")
         words.append(name)
     return ",".join(words)
+
+
+def whole(call):
+    """The call; of a generator the list of what it yields."""
+    if inspect.isgeneratorfunction(call):
+        return lambda *told: list(call(*told))
+    return call
 
 
 class InterfaceTests(unittest.TestCase):
@@ -175,7 +195,7 @@ class InterfaceTests(unittest.TestCase):
 class ArgumentTests(unittest.TestCase):
     def calls(self):
         """All calls with the kinds of their arguments."""
-        found = [(vars(module_of(name))[function], wanted) for name, functions in ARGUMENTS.items()
+        found = [(whole(vars(module_of(name))[function]), wanted) for name, functions in ARGUMENTS.items()
                  for function, wanted in functions.items()]
         return found + METHODS
 
@@ -219,11 +239,19 @@ class ArgumentTests(unittest.TestCase):
                     self.assertIn(repr(call(*right, value)), ("True", "False"))
 
     def test_a_generator_raises_at_its_first_element(self):
-        ways = module_of("read.ways").ways
-        for arguments, error in (((None, "a"), InvalidReader), ((ODD, "c"), InvalidText), ((1, 2), InvalidReader)):
-            started = ways(*arguments)
-            with self.assertRaises(error):
-                next(started)
+        many = 0
+        for name, functions in ARGUMENTS.items():
+            for function, wanted in functions.items():
+                call = vars(module_of(name))[function]
+                if inspect.isgeneratorfunction(call):
+                    right = [KINDS[kind][0] for kind in wanted]
+                    self.assertIsNotNone(next(call(*right)))
+                    for at, kind in enumerate(wanted):
+                        started = call(*right[:at], None, *[None for _ in right[at + 1:]])
+                        with self.assertRaises(KINDS[kind][2]):
+                            next(started)
+                    many += 1
+        self.assertEqual(many, 4)
 
 
 if __name__ == "__main__":

@@ -15,6 +15,11 @@ def states_of(mask):
     return tuple([state for state in range(mask.bit_length()) if mask >> state & 1])
 
 
+def lowest(mask):
+    """The least state in a mask, which is not empty."""
+    return (mask & -mask).bit_length() - 1
+
+
 def image(leads, mask):
     """The union of the masks that `leads` has for the states in a mask."""
     found = 0

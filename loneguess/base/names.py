@@ -19,14 +19,14 @@ def is_integer(value):
 
 def is_name(value):
     """Whether the value is a name."""
-    return isinstance(value, str) and 1 <= len(value) <= MAX_LETTERS and _is_plain(value)
+    return isinstance(value, str) and 1 <= len(value) <= MAX_LETTERS and is_plain(value)
 
 
 def is_letters(value):
     """Whether the value is the letters that a reader can have."""
     if not isinstance(value, str) or not 1 <= len(value) <= _MAX_ALPHABET:
         return False
-    return _is_plain(value) and is_ascending(value)
+    return is_plain(value) and is_ascending(value)
 
 
 def is_text(letters, value):
@@ -45,6 +45,11 @@ def is_ascending(values):
     return all([one < other for one, other in zip(values, values[1:])])
 
 
+def is_plain(text):
+    """Whether a string has only letters a to z, or none at all."""
+    return all(["a" <= letter <= "z" for letter in text])
+
+
 def check_letters(value):
     """Raises InvalidLetters unless the value is letters."""
     if not is_letters(value):
@@ -61,7 +66,3 @@ def check_letter(letters, value):
     """Raises InvalidText unless the value is a single one of these letters."""
     if not is_letter(letters, value):
         raise InvalidText("a single letter is wanted, one of " + letters)
-
-
-def _is_plain(text):
-    return all(["a" <= letter <= "z" for letter in text])

@@ -9,9 +9,9 @@ and multiplied out. If this fails, a longer prime is taken.
 from math import isqrt
 
 from loneguess.base.names import is_integer
-from loneguess.count.tallies import check_tally, ends_of, plans_back, plans_of
+from loneguess.count.tallies import check_tally, ends_of, last_column, plans_back, plans_of
 from loneguess.errors import TooMany
-from loneguess.read.rows import is_row, passed, stepped, weighed
+from loneguess.read.rows import dot, is_row, passed, stepped, weighed
 
 MAX_SPACE = 60
 
@@ -34,7 +34,7 @@ def hollow_paper(tally):
     sizes = [size for size, number in enumerate(tally.totals(tally.width)) if number != 0]
     if sizes:
         return ("length", sizes[0])
-    return space_paper(tally)
+    return ("space", tuple(_step_rows(tally)))
 
 
 def is_hollow_paper(tally, value):
@@ -58,20 +58,23 @@ def first_text(tally):
     """The first text at which the value is not 0, or None, if the tally is fair."""
     check_tally(tally)
     plans = plans_back(tally)
-    ends = dict(ends_of(tally))
-    column = tuple([ends.get(state, 0) for state in range(tally.width)])
+    column = last_column(tally)
     columns = []
     for _ in range(tally.width):
-        if _dot(tally.first, column) != 0:
+        if dot(tally.first, column) != 0:
             return _least_text(tally, columns)
         columns.append(column)
         column = stepped(plans, column)
     return None
 
 
-def space_paper(tally):
-    """The paper of a hollow tally: a space."""
-    return ("space", tuple(_step_rows(tally)))
+def fair_paper(tally):
+    """A paper of a fair tally: a space, or the first text at which the value is not 0."""
+    check_paper_width(tally)
+    text = first_text(tally)
+    if text is None:
+        return ("space", tuple(_step_rows(tally)))
+    return ("text", text)
 
 
 def is_space_paper(tally, value):
@@ -128,10 +131,6 @@ def _step_rows(tally):
     return [row for row, _ in independent_rows(tally, [plans_of(tally)])]
 
 
-def _dot(row, column):
-    return sum([number * factor for number, factor in zip(row, column)])
-
-
 def _least_text(tally, columns):
     """The first text as long as there are columns at which the value is not 0; the tally is fair.
 
@@ -145,7 +144,7 @@ def _least_text(tally, columns):
     text = ""
     for column in columns[::-1]:
         at = 0
-        while _dot(passed(plans[at], row), column) == 0:
+        while dot(passed(plans[at], row), column) == 0:
             at += 1
         text = text + tally.letters[at]
         row = passed(plans[at], row)

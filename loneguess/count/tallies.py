@@ -145,6 +145,12 @@ def ends_of(tally):
     return found
 
 
+def last_column(tally):
+    """What one way in each state is worth behind the empty text: the number of the part at last states."""
+    ends = dict(ends_of(tally))
+    return tuple([ends.get(state, 0) for state in range(tally.width)])
+
+
 def _are_parts(value):
     if not isinstance(value, tuple) or not value or not all([_is_part(part) for part in value]):
         return False

@@ -1,6 +1,6 @@
 """Whether a reader reads only texts of a lone one, found by counting."""
 
-from loneguess.count.spaces import check_paper_width, first_text, is_hollow, is_space_paper, space_paper
+from loneguess.count.spaces import fair_paper, first_text, is_hollow, is_space_paper
 from loneguess.count.tallies import Tally
 from loneguess.read.lone import check_lone, is_paper_text
 from loneguess.read.made import both, check_alike
@@ -25,12 +25,7 @@ def outside(one, other):
 
 def within_paper(one, other):
     """A paper that all texts of the first reader are texts of the second one, or that they are not."""
-    tally = tally_within(one, other)
-    check_paper_width(tally)
-    text = first_text(tally)
-    if text is None:
-        return space_paper(tally)
-    return ("text", text)
+    return fair_paper(tally_within(one, other))
 
 
 def is_within_paper(one, other, value):
@@ -62,7 +57,7 @@ def are_apart(one, other):
 
 def is_nearly_within(one, other):
     """Whether all texts of the first reader but finitely many are texts of the second one."""
-    return _ends_early(tally_within(one, other))
+    return ends_early(tally_within(one, other))
 
 
 def rest(one, other):
@@ -70,9 +65,14 @@ def rest(one, other):
     _check(one, other)
     check_lone(one)
     tally = _tally_less(one, other)
-    if not _ends_early(tally):
+    if not ends_early(tally):
         return None
     return sum(tally.totals(tally.width))
+
+
+def ends_early(tally):
+    """Whether the totals are 0 for all lengths from the width on."""
+    return not any(tally.totals(2 * tally.width)[tally.width:])
 
 
 def _check(one, other):
@@ -82,8 +82,3 @@ def _check(one, other):
 
 def _tally_less(one, other):
     return Tally(((1, one), (-1, both(one, other))))
-
-
-def _ends_early(tally):
-    """Whether the totals are 0 for all lengths from the width on."""
-    return not any(tally.totals(2 * tally.width)[tally.width:])

@@ -1,12 +1,11 @@
 """Formulas on a shelf, compared by the totals of their tallies."""
 
-from loneguess.count.spaces import check_paper_width, first_text, is_hollow, is_space_paper, space_paper
+from loneguess.count.spaces import fair_paper, first_text, is_hollow, is_space_paper
 from loneguess.count.tallies import Tally
 from loneguess.formula.formulas import name_sets, numbers_of
 from loneguess.formula.shelves import check_formula_on, check_letters_of, check_shelf
-from loneguess.formula.shelves import is_true_at, parts_by, tally_of
+from loneguess.formula.shelves import is_true_at, parts_by, tally_for, tally_of
 from loneguess.read.lone import is_paper_text
-from loneguess.read.made import both
 from loneguess.read.readers import check_reader
 
 
@@ -38,12 +37,7 @@ def first_gap(shelf, one, other):
 
 def implied_paper(shelf, one, other):
     """A paper that the first formula implies the second one, or that it does not."""
-    tally = _gap_tally(shelf, one, other)
-    check_paper_width(tally)
-    text = first_text(tally)
-    if text is None:
-        return space_paper(tally)
-    return ("text", text)
+    return fair_paper(_gap_tally(shelf, one, other))
 
 
 def is_implied_paper(shelf, one, other, value):
@@ -85,6 +79,4 @@ def _miss_tally(shelf, reader, formula):
     check_formula_on(shelf, formula)
     check_letters_of(shelf.letters, reader)
     truths = [not formula.holds(some) for some in name_sets(formula.names)]
-    parts = parts_by(shelf, numbers_of(formula.names, truths))
-    # Not by "product", so that readers with too many states are refused ahead of a width that is too great.
-    return Tally(tuple([(number, both(reader, other)) for number, other in parts]))
+    return tally_for(reader, parts_by(shelf, numbers_of(formula.names, truths)))

@@ -49,14 +49,14 @@ class Shelf:
 
     def without_reader(self, name):
         """The shelf without the reader of this name."""
-        _check_known(self._names, name)
+        check_known(self._names, name)
         return Shelf(self._letters, {other: self._readers[other] for other in self._names if other != name})
 
     def __contains__(self, x):
         return x in self._names
 
     def __getitem__(self, at):
-        _check_known(self._names, at)
+        check_known(self._names, at)
         return self._readers[at]
 
     def __iter__(self):
@@ -76,8 +76,7 @@ class Shelf:
 def reader_of(shelf, names):
     """A reader of the texts that the readers of all names of a set read."""
     check_shelf(shelf)
-    if not is_name_set(names) or not all([name in shelf.names for name in names]):
-        raise InvalidOperation("a set of names of the shelf is wanted")
+    check_names_on(shelf, names)
     if not names:
         return reader_of_all(shelf.letters)
     found = shelf[names[0]]
@@ -124,12 +123,18 @@ def check_letters_of(letters, reader):
         raise InvalidOperation("a reader with the letters " + letters + " is wanted")
 
 
+def check_names_on(shelf, value):
+    """Raises InvalidOperation unless the value is a set of names of a shelf."""
+    if not is_name_set(value) or not all([name in shelf for name in value]):
+        raise InvalidOperation("a set of names of the shelf is wanted")
+
+
 def check_formula_on(shelf, formula):
     """Raises an error unless there are a shelf and a formula, and the shelf has the formula's names."""
     check_shelf(shelf)
     check_formula(formula)
     for name in formula.names:
-        _check_known(shelf.names, name)
+        check_known(shelf.names, name)
 
 
 def is_true_at(shelf, formula, text):
@@ -144,6 +149,13 @@ def parts_by(shelf, pairs):
     return tuple([(number, reader_of(shelf, names)) for names, number in pairs])
 
 
-def _check_known(names, value):
+def tally_for(reader, parts):
+    """The product of the tally of the part (1, reader) with the tally of these parts."""
+    # Not by "product", so that readers with too many states are refused ahead of a width that is too great.
+    return Tally(tuple([(number, both(reader, other)) for number, other in parts]))
+
+
+def check_known(names, value):
+    """Raises UnknownName unless the value is one of these names."""
     if value not in names:
         raise UnknownName(value)

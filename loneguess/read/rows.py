@@ -123,6 +123,11 @@ def weighed(ends, row):
     return sum([weight * row[state] for state, weight in ends])
 
 
+def dot(row, column):
+    """The sum of the numbers of a row, each times what the column tells of its state."""
+    return sum([number * factor for number, factor in zip(row, column)])
+
+
 def weighed_below(plans, row, ends, size):
     """What the row comes to behind all numbers of steps below this one."""
     found = []

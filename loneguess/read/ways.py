@@ -1,6 +1,6 @@
 """The ways of a text through the states of a reader."""
 
-from loneguess.base.masks import image, mask_of, states_of
+from loneguess.base.masks import image, lowest, mask_of, states_of
 from loneguess.base.names import check_text
 from loneguess.read.readers import check_reader, is_state
 from loneguess.read.rows import row_behind
@@ -15,7 +15,7 @@ def count_ways(reader, text):
 def ways(reader, text):
     """Yields the ways of a text, ascending."""
     _check(reader, text)
-    live = _live(reader, text)
+    live = masks_ready(reader, text)
     way = _least_way(reader, text, live)
     while way is not None:
         yield way
@@ -25,22 +25,19 @@ def ways(reader, text):
 def first_way(reader, text):
     """The first way of a text, or None."""
     _check(reader, text)
-    return _least_way(reader, text, _live(reader, text))
+    return _least_way(reader, text, masks_ready(reader, text))
 
 
 def reached(reader, text):
     """The set of the states to which a text leads from first states."""
     _check(reader, text)
-    mask = mask_of(reader.firsts)
-    for letter in text:
-        mask = image(reader.onward(letter), mask)
-    return states_of(mask)
+    return states_of(masks_reached(reader, text)[-1])
 
 
 def ready(reader, text):
     """The set of the states from which a text leads to last states."""
     _check(reader, text)
-    return states_of(_live(reader, text)[0])
+    return states_of(masks_ready(reader, text)[0])
 
 
 def is_way(reader, text, value):
@@ -56,17 +53,25 @@ def is_way(reader, text, value):
                 for letter, state, other in zip(text, value, value[1:])])
 
 
-def _check(reader, text):
-    check_reader(reader)
-    check_text(reader.letters, text)
+def masks_reached(reader, text):
+    """For each index the mask of the states to which a text leads up to it."""
+    masks = [mask_of(reader.firsts)]
+    for letter in text:
+        masks.append(image(reader.onward(letter), masks[-1]))
+    return masks
 
 
-def _live(reader, text):
+def masks_ready(reader, text):
     """For each index the mask of the states from which the rest of a text leads to last ones."""
     masks = [mask_of(reader.lasts)]
     for letter in text[::-1]:
         masks.append(image(reader.backward(letter), masks[-1]))
     return masks[::-1]
+
+
+def _check(reader, text):
+    check_reader(reader)
+    check_text(reader.letters, text)
 
 
 def _choices(reader, text, live, way, at):
@@ -87,7 +92,7 @@ def _next_way(reader, text, live, way):
     for at in range(len(text), -1, -1):
         later = _choices(reader, text, live, way, at) >> way[at] + 1
         if later:
-            state = way[at] + 1 + _lowest(later)
+            state = way[at] + 1 + lowest(later)
             return _completed(reader, text, live, [*way[:at], state])
     return None
 
@@ -96,9 +101,5 @@ def _completed(reader, text, live, begin):
     """The first one of the ways that begin in this way; there is one."""
     way = list(begin)
     for at in range(len(begin), len(text) + 1):
-        way.append(_lowest(_choices(reader, text, live, way, at)))
+        way.append(lowest(_choices(reader, text, live, way, at)))
     return tuple(way)
-
-
-def _lowest(mask):
-    return (mask & -mask).bit_length() - 1

@@ -1,0 +1,1 @@
+"""Readers that are built so that they stay lone, or become so."""

@@ -1,0 +1,1 @@
+"""Texts in their order, by their numbers."""
