@@ -7,11 +7,14 @@ from itertools import combinations
 
 from loneguess import errors
 from loneguess.count.tallies import Tally
+from loneguess.desk.desk import Desk
 from loneguess.errors import InvalidFormula, InvalidLetters, InvalidName, InvalidNumber, InvalidOperation, InvalidReader
 from loneguess.errors import InvalidTally, InvalidText, UnknownName
 from loneguess.formula.formulas import Formula
 from loneguess.formula.shelves import Shelf
 from loneguess.read.readers import Reader
+from loneguess.text.formats import write_reader
+from loneguess.text.shell import Shell
 from tests.values import ENDA, ODD, SOME, kinds, kinds_but
 
 CONSTANTS = {
@@ -46,6 +49,9 @@ FUNCTIONS = {
     "listing.places": "texts_of(reader,size) nth(reader,index) place(reader,text) true_texts(shelf,formula,size) "
                       "nth_true(shelf,formula,index) true_place(shelf,formula,text)",
     "build.firsts": "careful(reader) lone_of(reader)",
+    "judge.covers": "is_cover(shelf,reader,names) is_split(shelf,reader,names) uncovered(shelf,reader,names) least_covers(shelf,reader) "
+                    "open_sets(shelf,reader) cover_paper(shelf,reader,names) is_cover_paper(shelf,reader,names,value)",
+    "text.formats": "write_reader(reader) write_formula(formula) write_value(value) read_reader(text) read_formula(text) read_value(text)",
 }
 CLASSES = {
     "read.readers": ("Reader(letters,size,firsts,lasts,arrows)", "with_arrow(state,letter,other) without_arrow(state,letter,other) "
@@ -57,6 +63,10 @@ CLASSES = {
                          "and or sub invert call len eq str"),
     "formula.shelves": ("Shelf(letters,readers)", "with_reader(name,reader) without_reader(name)", "", "letters names",
                         "getitem contains len iter eq str"),
+    "desk.desk": ("Desk(letters)", "put(name,reader) add_arrow(name,state,letter,other) cut_arrow(name,state,letter,other) take(name) "
+                  "claim(label,one,other) drop(label) claimed(label) shelf() count(formula,size) undo(*,many) redo(*,many) trial() "
+                  "during(call) twin()", "", "letters names labels", "getitem contains len iter eq str"),
+    "text.shell": ("Shell(letters)", "desk() answer(line)", "", "", "call"),
 }
 SHELF = Shelf("ab", {"odd": ODD, "ends": ENDA})
 A = Formula.of("odd")
@@ -85,6 +95,11 @@ KINDS = {
     "name set": (("odd",), [value for value in kinds() if value not in (("a",), ("two",), ("one",), ())], InvalidOperation, None),
     "texts": (("a", ""), [value for value in kinds() if not isinstance(value, tuple)], InvalidOperation, None),
     "dict": ({}, kinds_but(dict), InvalidOperation, None),
+    "told value": ((1, "a", None), [value for value in kinds() if not isinstance(value, (int, str, tuple)) and value is not None]
+                   + [True, False, "A", "a\n", (1, True), ([],), 10 ** 200], InvalidOperation, None),
+    "reader text": (write_reader(ODD), kinds_but(str), InvalidOperation, None),
+    "formula text": ("odd or not all", kinds_but(str), InvalidOperation, None),
+    "value text": ("( 1 =a )", kinds_but(str), InvalidOperation, None),
     "value": (None, None, None, None),
 }
 ARGUMENTS = {
@@ -119,16 +134,31 @@ ARGUMENTS = {
                        "true_texts": ("shelf", "formula", "length"), "nth_true": ("shelf", "formula", "index"),
                        "true_place": ("shelf", "formula", "odd text")},
     "build.firsts": {"careful": ("reader",), "lone_of": ("reader",)},
+    "judge.covers": {**{name: ("shelf", "reader", "names") for name in ("is_cover", "is_split", "uncovered", "cover_paper")},
+                     "is_cover_paper": ("shelf", "reader", "names", "value"), "least_covers": ("shelf", "reader"),
+                     "open_sets": ("shelf", "reader")},
+    "text.formats": {"write_reader": ("reader",), "write_formula": ("formula",), "write_value": ("told value",),
+                     "read_reader": ("reader text",), "read_formula": ("formula text",), "read_value": ("value text",)},
 }
 GAP = Tally(((1, SOME), (-1, ODD)))
+DESK = Desk("ab")
+DESK.put("odd", ODD)
+DESK.claim("odd", A, A)
 METHODS = [
-    (lambda letters, size: Reader(letters, size, None, None, None), ("letters", "size")),
+    (lambda letters, size: Reader(letters, size, (), (), ()), ("letters", "size")),
     (Reader.of_texts, ("letters", "texts")), (ODD.with_arrow, ("state", "letter", "state")), (ODD.over, ("letters",)), (GAP.worth, ("text",)),
     (GAP.through, ("wide row", "letter")), (GAP.step, ("wide row",)), (GAP.end, ("wide row",)), (GAP.total, ("length",)),
     (GAP.totals, ("length",)), (Formula.of, ("formula name",)), (A.holds, ("name set",)), (A, ("name set",)), (A.renamed, ("dict",)),
     (Shelf, ("letters", "dict")), (SHELF.with_reader, ("name", "reader")), (SHELF.without_reader, ("known name",)),
     (lambda name: SHELF[name], ("known name",)), (lambda name: GAP[name], ("state",)),
     (lambda other: GAP + other, ("operand",)), (lambda other: GAP - other, ("operand",)),
+    (Desk, ("letters",)), (Shell, ("letters",)),
+]
+DESK_METHODS = [
+    (DESK.put, ("name", "reader")), (DESK.add_arrow, ("known name", "state", "letter", "state")),
+    (DESK.cut_arrow, ("known name", "state", "letter", "state")), (DESK.take, ("known name",)), (DESK.claim, ("name", "formula", "formula")),
+    (DESK.drop, ("known name",)), (DESK.claimed, ("known name",)), (DESK.count, ("formula", "length")), (lambda name: DESK[name], ("known name",)),
+    (lambda many: DESK.undo(many=many), ("index",)), (lambda many: DESK.redo(many=many), ("index",)),
 ]
 
 
@@ -160,6 +190,11 @@ def whole(call):
 
 
 class InterfaceTests(unittest.TestCase):
+    def test_all_functions_have_their_arguments_told(self):
+        for name, line in FUNCTIONS.items():
+            if name != "base.names":
+                self.assertEqual(sorted(ARGUMENTS[name]), sorted(function for function, _ in told(line)))
+
     def test_constants(self):
         for name, wanted in CONSTANTS.items():
             for constant, value in wanted.items():
@@ -192,12 +227,17 @@ class InterfaceTests(unittest.TestCase):
             self.assertEqual(vars(errors)[name].__module__, "loneguess.errors")
 
 
+def calls_that_change_nothing():
+    """All calls, but for those that change a desk, with the kinds of their arguments."""
+    found = [(whole(vars(module_of(name))[function]), wanted) for name, functions in ARGUMENTS.items()
+             for function, wanted in functions.items()]
+    return found + METHODS
+
+
 class ArgumentTests(unittest.TestCase):
     def calls(self):
         """All calls with the kinds of their arguments."""
-        found = [(whole(vars(module_of(name))[function]), wanted) for name, functions in ARGUMENTS.items()
-                 for function, wanted in functions.items()]
-        return found + METHODS
+        return calls_that_change_nothing() + DESK_METHODS
 
     def check(self, call, wanted, arguments, at):
         """That the wrong argument at a place decides."""
@@ -217,6 +257,11 @@ class ArgumentTests(unittest.TestCase):
             for at, kind in enumerate(wanted):
                 for wrong in KINDS[kind][1] or ():
                     self.check(call, wanted, [*right[:at], wrong, *right[at + 1:]], at)
+
+    def test_wrong_parts_come_behind_wrong_letters_and_sizes(self):
+        for letters, size, error in (("ba", 99, InvalidLetters), ("ab", 99, InvalidNumber), ("ab", 2, InvalidReader)):
+            with self.assertRaises(error):
+                Reader(letters, size, None, None, None)
 
     def test_several_wrong_arguments(self):
         for call, wanted in self.calls():

@@ -3,11 +3,13 @@
 import random
 
 from loneguess.count.tallies import Tally
+from loneguess.desk.desk import Desk
 from loneguess.errors import InvalidNumber
 from loneguess.formula.formulas import Formula
 from loneguess.formula.shelves import Shelf
 from loneguess.read.lone import is_lone
 from loneguess.read.readers import Reader
+from loneguess.text.shell import Shell
 
 ODD = Reader("ab", 2, (0,), (1,), ((0, "a", 1), (0, "b", 0), (1, "a", 0), (1, "b", 1)))
 ENDA = Reader("ab", 2, (0,), (1,), ((0, "a", 0), (0, "a", 1), (0, "b", 0)))
@@ -40,7 +42,8 @@ STRANGE = (
 
 def kinds():
     """Those values, and objects of the package."""
-    return [*STRANGE, ODD, NOTHING, InvalidNumber(3), Tally(((1, ODD),)), Formula.of("odd"), Shelf("ab", {"odd": ODD})]
+    return [*STRANGE, ODD, NOTHING, InvalidNumber(3), Tally(((1, ODD),)), Formula.of("odd"), Shelf("ab", {"odd": ODD}),
+            Desk("ab"), Shell("ab")]
 
 
 def kinds_but(*classes):

@@ -1,0 +1,1 @@
+"""Readers and claims that are changed step by step."""

@@ -1,0 +1,1 @@
+"""Lone readers that cover what a further reader reads."""

@@ -1,0 +1,1 @@
+"""Values and commands as texts."""
