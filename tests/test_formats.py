@@ -264,7 +264,7 @@ class ValueTextTests(unittest.TestCase):
     def test_bent_texts(self):
         for text in ("", " ", "( ", "(", ")", "()", "( ( )", "( ) )", ") (", "( 1", "1 )", "1 2", "( 1  2 )", "( 1 2 ) ", " ( 1 2 )", "(1 2)", "( 1, 2 )",
                      "00", "01", "-0", "-01", "--1", "+1", "1.0", "1e3", "0x1", "1_000", "-", "None", "True", "a", "==", "=A", "=a b", "=a=", "=1",
-                     "( =a =b", "[ 1 ]", "( 1 2\t)", "none none", "( ) ( )", "( ) 1", "-none", "=a ", "'a'", "( 007 )", "( -0 )"):
+                     "( =a =b", "1 (", "1 ( 2", "( ) (", "1 ( ( )", "[ 1 ]", "( 1 2\t)", "none none", "( ) ( )", "( ) 1", "-none", "=a ", "'a'", "( 007 )", "( -0 )"):
             expect_kept(self, ParseError, "index", 0, read_value, text)
             expect_kept(self, ParseError, "index", 0, read_value, text + "\nnone")
 

@@ -134,6 +134,25 @@ class StatementTests(unittest.TestCase):
                     self.assertIn(keyword.arg, ("key", "reverse", "default", "start"), (name, node.lineno))
 
 
+    def test_errors_that_are_caught(self):
+        own = {node.name for _, node in nodes(ast.ClassDef)}
+        for name, node in nodes(ast.FunctionDef):
+            handlers = [part for part in ast.walk(node) if isinstance(part, ast.ExceptHandler)]
+            told = [handler.name for handler in handlers if handler.name]
+            self.assertEqual(len(told), len(set(told)), (name, node.name))
+            for handler in handlers:
+                kinds = handler.type.elts if isinstance(handler.type, ast.Tuple) else [handler.type]
+                self.assertTrue(all(kind.id in own for kind in kinds), (name, handler.lineno))
+
+    def test_ends_of_blocks_only_assign_attributes(self):
+        for name, node in nodes(ast.FunctionDef, ast.Try):
+            rows = node.finalbody if isinstance(node, ast.Try) else node.body if node.name == "__exit__" else []
+            for row in rows:
+                self.assertIsInstance(row, ast.Assign, (name, row.lineno))
+                self.assertIsInstance(row.targets[0], ast.Attribute, (name, row.lineno))
+                self.assertIsInstance(row.value, (ast.Attribute, ast.Name), (name, row.lineno))
+
+
 class NameTests(unittest.TestCase):
     def test_builtins(self):
         for name, node in nodes(ast.Name):

@@ -28,7 +28,6 @@ def join(one, other):
 
 def again(reader):
     """The reader whose ways of a text are its chains by a lone reader."""
-    check_reader(reader)
     check_lone(reader)
     many = len(reader)
     if many + 1 > MAX_STATES:

@@ -57,8 +57,6 @@ class Desk:
         """Keeps a claim under a label: that the first formula implies the second one."""
         readers, claims = self._history.readers, self._history.claims
         check_name(label)
-        check_formula_on(readers, one)
-        check_formula_on(readers, other)
         _check_claim(readers, label, (one, other))
         self._history = self._history.followed_by(readers, {**claims, label: (one, other)})
 

@@ -2,7 +2,7 @@
 
 from loneguess.base.names import MAX_DIGITS, is_integer, is_plain
 from loneguess.errors import InvalidFormula, InvalidLetters, InvalidNumber, InvalidOperation, InvalidReader, ParseError
-from loneguess.formula.formulas import MAX_DEPTH, Formula, check_formula, is_formula_name
+from loneguess.formula.formulas import MAX_DEPTH, Formula, check_formula
 from loneguess.read.readers import Reader, check_reader
 
 _MAX_TUPLES = 8
@@ -109,10 +109,10 @@ def _has_form(at, words):
 def _formula_in(line):
     """The formula whose text is a line."""
     words = line.replace("(", "( ").replace(")", " )").split(" ")
-    tree, behind = _tree_at(words, 0, MAX_DEPTH)
+    tree, _ = _tree_at(words, 0, MAX_DEPTH)
     formula = _formula_of(tree)
-    # What has needless brackets or blanks is read, too, but is not the text of what it is read as.
-    if behind != len(words) or str(formula) != line:
+    # Brackets and words that are lacking, needless or left over are not minded until here.
+    if str(formula) != line:
         raise ParseError(0)
     return formula
 
@@ -134,7 +134,7 @@ def _tree_at(words, at, depth):
 
 
 def _part_at(words, at, depth):
-    """The tree that begins at an index and stands in brackets if it needs them, and the index behind it.
+    """The tree that begins at an index and stands in brackets if it has two parts, and the index behind it.
 
     A tree has at most so many tuples one in another as the depth tells; so it has no more
     brackets and "not" one in another, and reading goes no deeper.
@@ -147,13 +147,9 @@ def _part_at(words, at, depth):
         return ("not", part), behind
     if word == "(":
         part, behind = _tree_at(words, at + 1, depth - 1)
-        if _word_at(words, behind) != ")":
-            raise ParseError(0)
         return part, behind + 1
     if word in ("all", "none"):
         return (word,), at + 1
-    if not is_formula_name(word):
-        raise ParseError(0)
     return ("name", word), at + 1
 
 
